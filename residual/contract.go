@@ -2,6 +2,7 @@ package residual
 
 import (
 	"errors"
+	"slices"
 
 	"ropewalk/api"
 	"ropewalk/rewrite"
@@ -37,9 +38,16 @@ func instances(y *system.System, t api.Term, l []int) ([]api.Term, error) {
 	s := y.Sig()
 	parts := make([]api.Term, len(t))
 	var long error
+	var sub, part api.Term
 	for _, p := range l {
-		sub, _ := term.Sub(s, t, p)
-		part, _, err := rewrite.Contract(y, sub, 0)
+		last := sub
+		sub, _ = term.Sub(s, t, p)
+		if slices.Equal(sub, last) { // where a graph's node has many copies, to contract one of them is enough
+			parts[p] = part
+			continue
+		}
+		var err error
+		part, _, err = rewrite.Contract(y, sub, 0)
 		if errors.Is(err, api.ErrRewriteRedex) {
 			return nil, &api.Fault{Code: api.ErrRewriteRedex, At: p}
 		}
