@@ -54,17 +54,23 @@ func (v *sight) needed() (api.Redex, bool) {
 // neededAt is the needed redex of the subterm at a place whose root is not rigid; false: it is rigid.
 func (v *sight) neededAt(at int) (api.Redex, bool) {
 	spine := []int{at} // as the machine's: each place hangs on the one behind it
-	for len(spine) > 0 {
-		top := len(spine) - 1
-		switch found := v.walk(spine[top]); found.Kind {
+	for {
+		switch found := v.walk(at); found.Kind {
 		case api.Fits:
-			return api.Redex{Place: spine[top], Rule: found.Rule}, true
+			return api.Redex{Place: at, Rule: found.Rule}, true
 		case api.Demand:
-			spine = append(spine, found.Node)
+			at = found.Node
+			spine = append(spine, at)
 		default:
-			v.rigid[spine[top]] = true
-			spine = spine[:top]
+			v.setRigid(spine)
+			return api.Redex{}, false
 		}
 	}
-	return api.Redex{}, false
+}
+
+// setRigid keeps that places are rigid, so that no walk goes there again: what hangs on a rigid place is rigid, too.
+func (v *sight) setRigid(places []int) {
+	for _, at := range places {
+		v.rigid[at] = true
+	}
 }
